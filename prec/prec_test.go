@@ -182,7 +182,7 @@ func TestForks(t *testing.T) { // P10.1, P10.2
 	}
 }
 
-// TestAsThePlainReading: all sets of pairs of three symbols and of four, and drawn pairs, cycles and wrong numbers among them.
+// TestAsThePlainReading: all sets of pairs of two unlike symbols, of at most four, and drawn pairs, cycles and wrong numbers among them.
 func TestAsThePlainReading(t *testing.T) { // P10.1, P10.2
 	for n := range 5 {
 		for l := range everyPairs(n) {
