@@ -5,6 +5,7 @@ import (
 	"testing"
 
 	"lodestone/api"
+	"lodestone/cert"
 	"lodestone/term"
 )
 
@@ -59,8 +60,10 @@ func TestAllArguments(t *testing.T) { // R1, R2
 		for _, l := range rows {
 			for _, r := range rows {
 				for _, tree := range trees {
-					n, e := New(api.System{Sig: sig, Rules: []api.Rule{rule(l, r)}}, tree)
-					if (n == nil) != (e != api.OK) {
+					s := api.System{Sig: sig, Rules: []api.Rule{rule(l, r)}}
+					n, e := New(s, tree)
+					// without an accepted certificate a path need not end
+					if (n == nil) != (e != api.OK) || n != nil && cert.Check(s, tree) != api.Accept {
 						t.Fatalf("New(%v, %v -> %v, %v): %v, %v", sig, l, r, tree, n, e)
 					}
 					if n != nil {
